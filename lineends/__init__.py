@@ -1,0 +1,1 @@
+"""Lineends: conversions of line endings one after another."""

@@ -1,0 +1,32 @@
+"""The examples of the interface as they stand, and those of the README."""
+
+import doctest
+import pathlib
+import unittest
+
+README = pathlib.Path(__file__).resolve().parent.parent / "README.md"
+
+
+class ExamplesTest(unittest.TestCase):
+    def test_converting(self):
+        from lineends.converting import convert, convert_run, runs_of
+        self.assertEqual(
+            [convert('a\nb^\nc', 'UM'), convert_run(([(3, 0), (1, 2)], 1), 'UD'),
+             convert_run(([(10 ** 20, 1)], 0), 'M'), runs_of('a\n\n^b^\n')],
+            ['a\n\nb\n\n\nc', ([(3, 0), (1, 2)], 1), ([(200000000000000000000, 0)], 0), [([(2, 0)], 1), ([(1, 1)], 0)]])
+
+    def test_forms(self):
+        from lineends.forms import apply_form, form, joined, powered, same
+        self.assertEqual(
+            [form('UMUM'), form('DU'), form('DDN'), joined(('keep', 0, 1), ('cr', 2, 0, 3)),
+             powered(('keep', 0, 1), 10 ** 20)],
+            [('lf', 0, 1, 2, 0), ('keep', 1, 1), ('cr', 2, 0, 1), ('cr', 1, 0, 3), ('keep', 0, 100000000000000000000)])
+        self.assertTrue(callable(apply_form) and callable(same))
+
+    def test_readme(self):
+        # The fences around the examples would be read as a part of what is wanted.
+        text = README.read_text().replace("```", "")
+        examples = doctest.DocTestParser().get_doctest(text, {}, "README.md", str(README), 0)
+        failed, tried = doctest.DocTestRunner().run(examples)
+        self.assertEqual(failed, 0)
+        self.assertGreater(tried, 5)
