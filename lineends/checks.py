@@ -1,6 +1,6 @@
-"""The checks of chains, runs and forms, for the files that share them."""
+"""The checks of chains, runs, forms and numbers, for the files that share them."""
 
-from lineends.errors import InvalidChain, InvalidForm, InvalidRun
+from lineends.errors import InvalidChain, InvalidForm, InvalidNumber, InvalidRun
 
 STEPS = "UDMN"
 FORM_LENGTHS = {"keep": 3, "lf": 5, "cr": 4}
@@ -38,3 +38,9 @@ def is_form(wanted):
     if min(wanted[1:]) < 0:
         return False
     return wanted[0] == "keep" or wanted[3] > 0
+
+
+def check_not_negative(number):
+    """Raise InvalidNumber for a number below 0."""
+    if number < 0:
+        raise InvalidNumber(number)

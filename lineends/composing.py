@@ -46,7 +46,7 @@ def units_of_one(first, second):
     """Return the units that the second form counts in one group or rest character which the first one made."""
     if first[0] == "cr":
         return 1
-    return signs_after(first[4], second) + 1
+    return units_of_group(first[4], second)
 
 
 def signs_after(j, wanted):
@@ -59,7 +59,12 @@ def run_after(run, wanted):
     groups, rest = run
     if wanted[0] == "keep":
         return (merged_groups([(many, signs_after(j, wanted)) for many, j in groups]), rest)
-    number = wanted[3] * units(run, wanted)
+    return run_of_units(units(run, wanted), wanted)
+
+
+def run_of_units(total, wanted):
+    """Return the run that a form makes of a run with so many units, where it doesn't keep the groups."""
+    number = wanted[3] * total
     if wanted[0] == "cr":
         return ([], number)
     # The run without characters has no units, and no tuple stands for no groups.
@@ -71,7 +76,12 @@ def run_after(run, wanted):
 def units(run, wanted):
     """Return the units of a run for the b and a of a form."""
     groups, rest = run
-    return sum([many * (signs_after(j, wanted) + 1) for many, j in groups]) + rest
+    return sum([many * units_of_group(j, wanted) for many, j in groups]) + rest
+
+
+def units_of_group(j, wanted):
+    """Return the units of one group with j returns for the b and a of a form."""
+    return signs_after(j, wanted) + 1
 
 
 def merged_groups(groups):

@@ -1,8 +1,7 @@
 """Normal forms of chains."""
 
-from lineends.checks import check_chain, check_form, check_run
+from lineends.checks import check_chain, check_form, check_not_negative, check_run
 from lineends.composing import NOTHING, form_of_both, form_of_chain, run_after
-from lineends.errors import InvalidNumber
 
 
 def form(chain):
@@ -35,8 +34,7 @@ def joined(first, second):
 def powered(wanted, times):
     """Return the form of a chain with a form that is repeated."""
     check_form(wanted)
-    if times < 0:
-        raise InvalidNumber(times)
+    check_not_negative(times)
     result = NOTHING
     power = wanted
     # By squares, since the number of times may be far too great for a loop over all of them.

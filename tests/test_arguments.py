@@ -4,21 +4,34 @@ import copy
 import inspect
 import unittest
 
-from lineends import converting, errors, forms
+from lineends import converting, counting, errors, forms, shortest, sources as sources_file, staying
 from lineends.converting import convert, convert_run, runs_of, size, stages
+from lineends.counting import count_forms, forms_with
 from lineends.forms import apply_form, commute, form, joined, powered, same
+from lineends.shortest import count_shortest, fewest_steps, nth_shortest, shortest_chain, shortest_number
+from lineends.sources import count_sources, sources
+from lineends.staying import is_idempotent, stays, undoing
 
 INTERFACE = {
     converting: {"convert": ["text", "chain"], "convert_run": ["run", "chain"], "stages": ["text", "chain"],
                  "size": ["run"], "runs_of": ["text"]},
     forms: {"form": ["chain"], "same": ["first", "second"], "apply_form": ["run", "wanted"],
             "joined": ["first", "second"], "powered": ["wanted", "times"], "commute": ["first", "second"]},
+    shortest: {"fewest_steps": ["wanted"], "shortest_chain": ["wanted"], "count_shortest": ["wanted"],
+               "nth_shortest": ["wanted", "number"], "shortest_number": ["chain"]},
+    counting: {"count_forms": ["steps"], "forms_with": ["steps"]},
+    staying: {"stays": ["run", "wanted"], "is_idempotent": ["wanted"], "undoing": ["wanted"]},
+    sources_file: {"count_sources": ["run", "wanted"], "sources": ["run", "wanted"]},
 }
 
 RUNS = [([], 0), ([], 4), ([(1, 0)], 0), ([(2, 0), (1, 3), (4, 1)], 2)]
 CHAINS = ["", "U", "D", "M", "N", "UD", "DUMUN"]
 FORMS = [("keep", 0, 0), ("keep", 1, 1), ("lf", 0, 0, 1, 0), ("lf", 1, 2, 3, 4), ("cr", 0, 0, 1), ("cr", 1, 2, 3)]
 WRONG_RUNS = [([(1, 0), (2, 0)], 0), ([(0, 1)], 2), ([(1, 1)], -1)]
+
+
+def all_sources(run, wanted):
+    return list(sources(run, wanted))
 
 
 class InterfaceTest(unittest.TestCase):
@@ -30,7 +43,7 @@ class InterfaceTest(unittest.TestCase):
                 self.assertEqual((function.__name__, function.__module__), (name, module.__name__))
 
     def test_all_files_are_of_one_package(self):
-        self.assertEqual({module.__package__ for module in [converting, errors, forms]}, {"lineends"})
+        self.assertEqual({module.__package__ for module in [errors, *INTERFACE]}, {"lineends"})
 
     def test_arguments_by_name(self):
         run = ([(1, 2)], 3)
@@ -46,6 +59,21 @@ class InterfaceTest(unittest.TestCase):
         self.assertEqual(powered(times=2, wanted=("keep", 0, 1)), ("keep", 0, 2))
         self.assertIs(commute(second="D", first="U"), False)
 
+    def test_arguments_by_name_of_functions_of_forms(self):
+        run = ([(1, 2)], 3)
+        self.assertEqual(fewest_steps(wanted=("keep", 1, 2)), 3)
+        self.assertEqual(shortest_chain(wanted=("keep", 1, 2)), "DUU")
+        self.assertEqual(count_shortest(wanted=("cr", 0, 0, 12)), 5)
+        self.assertEqual(nth_shortest(number=1, wanted=("cr", 0, 0, 4)), "MUUUN")
+        self.assertEqual(shortest_number(chain="MUUUN"), 1)
+        self.assertEqual(count_forms(steps=2), 8)
+        self.assertEqual(list(forms_with(steps=0)), [("keep", 0, 0)])
+        self.assertIs(stays(wanted=("keep", 0, 0), run=run), True)
+        self.assertIs(is_idempotent(wanted=("keep", 0, 1)), False)
+        self.assertEqual(undoing(wanted=("keep", 0, 1)), "D")
+        self.assertEqual(count_sources(wanted=("keep", 4, 2), run=run), 5)
+        self.assertEqual(list(sources(wanted=("keep", 0, 1), run=run)), [([(1, 1)], 3)])
+
 
 class ListsTest(unittest.TestCase):
     def calls(self):
@@ -56,6 +84,9 @@ class ListsTest(unittest.TestCase):
                 yield convert_run, (run, chain)
             for wanted in FORMS:
                 yield apply_form, (run, wanted)
+                yield stays, (run, wanted)
+                yield count_sources, (run, wanted)
+                yield all_sources, (run, wanted)
         for text in ["", "a", "\n", "a\n\n^b^\n"]:
             yield runs_of, (text,)
 
@@ -76,7 +107,9 @@ class ListsTest(unittest.TestCase):
     def test_arguments_are_unchanged_after_an_error(self):
         for run in WRONG_RUNS:
             before = copy.deepcopy(run)
-            for function, given in [(size, (run,)), (convert_run, (run, "U")), (apply_form, (run, ("keep", 0, 1)))]:
+            with_forms = [apply_form, stays, count_sources, all_sources]
+            for function, given in [(size, (run,)), (convert_run, (run, "U")),
+                                    *[(function, (run, ("keep", 0, 1))) for function in with_forms]]:
                 with self.assertRaises(errors.InvalidRun):
                     function(*given)
                 self.assertEqual(run, before)

@@ -23,6 +23,34 @@ class ExamplesTest(unittest.TestCase):
             [('lf', 0, 1, 2, 0), ('keep', 1, 1), ('cr', 2, 0, 1), ('cr', 1, 0, 3), ('keep', 0, 100000000000000000000)])
         self.assertTrue(callable(apply_form) and callable(same))
 
+    def test_shortest(self):
+        from lineends.shortest import count_shortest, fewest_steps, nth_shortest, shortest_number
+        twelve = ('cr', 0, 0, 12)
+        self.assertEqual(
+            [fewest_steps(twelve), count_shortest(twelve), nth_shortest(twelve, 0), shortest_number('MUMUMUUN'),
+             shortest_number('NU')],
+            [8, 5, 'MUMUMUUN', 0, None])
+
+    def test_counting(self):
+        from lineends.counting import count_forms, forms_with
+        self.assertEqual(
+            [[count_forms(steps) for steps in [0, 1, 2, 3]], list(forms_with(1))],
+            [[1, 4, 8, 15], [('cr', 0, 0, 1), ('keep', 0, 1), ('keep', 1, 0), ('lf', 0, 0, 1, 0)]])
+
+    def test_staying(self):
+        from lineends.staying import is_idempotent, stays, undoing
+        self.assertEqual(
+            [stays(([(5, 1)], 0), ('keep', 1, 1)), is_idempotent(('keep', 1, 1)), is_idempotent(('lf', 0, 0, 2, 0)),
+             undoing(('keep', 0, 2)), undoing(('keep', 1, 1))],
+            [True, True, False, 'DD', None])
+
+    def test_sources(self):
+        from lineends.sources import count_sources, sources
+        self.assertEqual(
+            [count_sources(([(2, 0)], 0), ('keep', 1, 0)), list(sources(([(2, 0)], 0), ('lf', 0, 0, 1, 0))),
+             count_sources(([(1, 0)], 0), ('lf', 0, 0, 2, 0))],
+            [4, [([(2, 0)], 0), ([(1, 0)], 1), ([(1, 1)], 0), ([], 2)], 0])
+
     def test_readme(self):
         # The fences around the examples would be read as a part of what is wanted.
         text = README.read_text().replace("```", "")

@@ -5,21 +5,10 @@ import unittest
 from lineends.converting import convert, convert_run, runs_of
 from lineends.errors import InvalidChain, InvalidForm, InvalidNumber, InvalidRun
 from lineends.forms import apply_form, commute, form, joined, powered, same
-from tests.helpers import chains_up_to, check_error, read, sign_texts, slow_convert
-
-GREAT = 10 ** 30 - 1
+from tests.helpers import GREAT, NO_FORMS, chains_up_to, check_error, read, sign_texts, slow_convert
 
 # These runs tell any two different forms with small numbers from each other.
 PROBES = ["\n", "^", "^\n", "^^\n", "^^^\n", "^^^^\n", "^^^^^\n", "^^^^^^\n\n^^"]
-
-NO_FORMS = [
-    (), ("keep",), ("lf",), ("cr",), ("",), ("stay", 0, 0), ("Keep", 0, 0), ("", 0, 0), ("lf cr", 0, 0, 1, 0),
-    ("keep", 0), ("keep", 0, 0, 1), ("keep", 0, 0, 1, 0), ("lf", 0, 0, 1), ("lf", 0, 0, 1, 0, 0), ("lf", 0, 0),
-    ("cr", 0, 0), ("cr", 0, 0, 1, 0), ("keep", -1, 0), ("keep", 0, -1), ("keep", -1, -1),
-    ("lf", -1, 0, 1, 0), ("lf", 0, -1, 1, 0), ("lf", 0, 0, -1, 0), ("lf", 0, 0, 1, -1), ("lf", 0, 0, 0, 0),
-    ("cr", -1, 0, 1), ("cr", 0, -1, 1), ("cr", 0, 0, -1), ("cr", 0, 0, 0), ("cr", 1, 1, 0), ("lf", 1, 1, 0, 1),
-    (0, "keep", 0), (0, 0, 0), ("keep", -GREAT, GREAT),
-]
 
 FORMS = [
     ("keep", 0, 0), ("keep", 0, 3), ("keep", 2, 0), ("keep", 5, 2), ("keep", 2, 5), ("keep", 1, 1),

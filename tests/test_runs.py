@@ -4,31 +4,7 @@ import unittest
 
 from lineends.converting import convert, convert_run, runs_of, size
 from lineends.errors import InvalidChain, InvalidRun
-from tests.helpers import chains_up_to, check_error, read, sign_texts, slow_convert, written
-
-GREAT = 10 ** 30 - 1
-
-INVALID_RUNS = [
-    (([(0, 0)], 0), 0),
-    (([(-1, 2)], 0), 0),
-    (([(1, -1)], 0), 0),
-    (([(1, 0), (0, 1)], 0), 1),
-    (([(1, 0), (1, -1)], 0), 1),
-    (([(1, 2), (3, 2)], 0), 1),
-    (([(1, 0), (1, 1), (1, 1)], 0), 2),
-    (([(1, 0), (1, 1), (1, 0), (-5, 1)], 0), 3),
-    (([(1, 0), (1, 0), (0, 1)], 0), 1),
-    (([(1, 0), (0, 1), (1, 1)], 0), 1),
-    (([(1, -1), (1, -1)], 0), 0),
-    (([(0, -1), (1, 0)], 0), 0),
-    (([], -1), None),
-    (([(1, 0)], -1), None),
-    (([(GREAT, GREAT), (1, 0)], -GREAT), None),
-    (([(1, 0), (1, 0)], -1), 1),
-    (([(0, 0)], -1), 0),
-    (([(1, -1)], -1), 0),
-    (([(1, at) for at in range(39)] + [(1, 38)], 0), 39),
-]
+from tests.helpers import GREAT, INVALID_RUNS, chains_up_to, check_error, read, sign_texts, slow_convert, written
 
 
 class RunCheckTest(unittest.TestCase):
