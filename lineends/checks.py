@@ -25,6 +25,15 @@ def check_run(run):
         raise InvalidRun(None)
 
 
+def is_run(run):
+    """Return True if a run passes its check, otherwise False."""
+    try:
+        check_run(run)
+    except InvalidRun:
+        return False
+    return True
+
+
 def check_form(wanted):
     """Raise InvalidForm for a tuple that is no form."""
     if not is_form(wanted):

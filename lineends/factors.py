@@ -15,6 +15,15 @@ def prime_factors(k):
     return factors
 
 
+def divisors(k):
+    """Return the ascending list of the divisors of k."""
+    found = [1]
+    for prime in prime_factors(k):
+        # A prime that comes again makes the same products again: unless they are dropped at once, they pile up.
+        found = sorted(set(found + [prime * divisor for divisor in found]))
+    return found
+
+
 def primes_up_to(top):
     """Return the ascending list of the primes up to a number."""
     primes = []

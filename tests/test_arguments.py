@@ -4,13 +4,18 @@ import copy
 import inspect
 import unittest
 
-from lineends import converting, counting, errors, forms, shortest, sources as sources_file, staying
+from lineends import (converting, counting, errors, fitting, forms, hidden as hidden_file, remainders, shortest,
+                      sources as sources_file, staying, tracing)
 from lineends.converting import convert, convert_run, runs_of, size, stages
 from lineends.counting import count_forms, forms_with
+from lineends.fitting import fits, simplest
 from lineends.forms import apply_form, commute, form, joined, powered, same
+from lineends.hidden import HiddenChain, find
+from lineends.remainders import remainder
 from lineends.shortest import count_shortest, fewest_steps, nth_shortest, shortest_chain, shortest_number
 from lineends.sources import count_sources, sources
 from lineends.staying import is_idempotent, stays, undoing
+from lineends.tracing import offspring, trace
 
 INTERFACE = {
     converting: {"convert": ["text", "chain"], "convert_run": ["run", "chain"], "stages": ["text", "chain"],
@@ -22,6 +27,15 @@ INTERFACE = {
     counting: {"count_forms": ["steps"], "forms_with": ["steps"]},
     staying: {"stays": ["run", "wanted"], "is_idempotent": ["wanted"], "undoing": ["wanted"]},
     sources_file: {"count_sources": ["run", "wanted"], "sources": ["run", "wanted"]},
+    tracing: {"trace": ["run", "wanted", "place"], "offspring": ["run", "wanted", "place"]},
+    remainders: {"remainder": ["first", "second"]},
+    fitting: {"fits": ["pairs", "wanted"], "simplest": ["pairs"]},
+    hidden_file: {"find": ["hidden", "longest"]},
+}
+
+# Each class with its arguments, its methods with theirs, and its properties.
+CLASSES = {
+    HiddenChain: ("lineends.hidden", ["chain"], {"ask": ["text"]}, ["questions"]),
 }
 
 RUNS = [([], 0), ([], 4), ([(1, 0)], 0), ([(2, 0), (1, 3), (4, 1)], 2)]
@@ -41,6 +55,16 @@ class InterfaceTest(unittest.TestCase):
                 function = getattr(module, name)
                 self.assertEqual(list(inspect.signature(function).parameters), arguments)
                 self.assertEqual((function.__name__, function.__module__), (name, module.__name__))
+
+    def test_each_class_has_its_methods_in_its_own_body(self):
+        for each, (file, arguments, methods, properties) in CLASSES.items():
+            self.assertEqual(each.__module__, file)
+            self.assertEqual(list(inspect.signature(each).parameters), arguments)
+            for name, taken in methods.items():
+                self.assertIn(name, vars(each))
+                self.assertEqual(list(inspect.signature(vars(each)[name]).parameters)[1:], taken)
+            for name in properties:
+                self.assertIsInstance(vars(each)[name], property)
 
     def test_all_files_are_of_one_package(self):
         self.assertEqual({module.__package__ for module in [errors, *INTERFACE]}, {"lineends"})
@@ -74,6 +98,17 @@ class InterfaceTest(unittest.TestCase):
         self.assertEqual(count_sources(wanted=("keep", 4, 2), run=run), 5)
         self.assertEqual(list(sources(wanted=("keep", 0, 1), run=run)), [([(1, 1)], 3)])
 
+    def test_arguments_by_name_of_functions_of_pairs_and_places(self):
+        run = ([(1, 2)], 3)
+        self.assertEqual(trace(place=2, wanted=("keep", 1, 0), run=run), 3)
+        self.assertEqual(offspring(place=2, wanted=("keep", 1, 1), run=run), (1, 2))
+        self.assertEqual(remainder(second=("keep", 0, 0), first=("keep", 0, 1)), "D")
+        self.assertIs(fits(wanted=("keep", 0, 1), pairs=[(run, ([(1, 3)], 3))]), True)
+        self.assertEqual(simplest(pairs=[(run, ([(1, 3)], 3))]), [("keep", 0, 1)])
+        hidden = HiddenChain(chain="U")
+        self.assertEqual(hidden.ask(text="\n"), "^\n")
+        self.assertEqual(find(longest=1, hidden=hidden), ("keep", 0, 1))
+
 
 class ListsTest(unittest.TestCase):
     def calls(self):
@@ -87,6 +122,16 @@ class ListsTest(unittest.TestCase):
                 yield stays, (run, wanted)
                 yield count_sources, (run, wanted)
                 yield all_sources, (run, wanted)
+                for other in RUNS:
+                    yield fits, ([(run, other), (other, run)], wanted)
+                if run != ([], 0):
+                    yield trace, (run, wanted, 0)
+                    yield offspring, (run, wanted, 0)
+            for other in RUNS:
+                yield simplest, ([(run, other)],)
+                yield simplest, ([(run, other), (other, run)],)
+        yield simplest, ([],)
+        yield simplest, ([(([(1, 0)], 0), ([(6, 0)], 0))],)
         for text in ["", "a", "\n", "a\n\n^b^\n"]:
             yield runs_of, (text,)
 
@@ -108,17 +153,29 @@ class ListsTest(unittest.TestCase):
         for run in WRONG_RUNS:
             before = copy.deepcopy(run)
             with_forms = [apply_form, stays, count_sources, all_sources]
-            for function, given in [(size, (run,)), (convert_run, (run, "U")),
+            pairs = [(([], 0), ([], 0)), (run, ([], 0))]
+            for function, given in [(size, (run,)), (convert_run, (run, "U")), (trace, (run, ("keep", 0, 1), 0)),
+                                    (offspring, (run, ("keep", 0, 1), 0)), (fits, (pairs, ("keep", 0, 1))),
+                                    (simplest, (pairs,)),
                                     *[(function, (run, ("keep", 0, 1))) for function in with_forms]]:
                 with self.assertRaises(errors.InvalidRun):
                     function(*given)
                 self.assertEqual(run, before)
+                self.assertEqual(pairs, [(([], 0), ([], 0)), (before, ([], 0))])
+
+    def test_a_wrong_place_changes_no_argument(self):
+        run = ([(2, 1), (1, 0)], 3)
+        for function in [trace, offspring]:
+            with self.assertRaises(errors.InvalidPlace):
+                function(run, ("keep", 0, 1), 100)
+            self.assertEqual(run, ([(2, 1), (1, 0)], 3))
 
     def test_every_list_is_new(self):
         for function, given in self.calls():
             results = [function(*given), function(*given)]
-            lists = self.lists_in(given) + self.lists_in(results)
+            lists = self.lists_in(results)
             self.assertEqual(len({id(each) for each in lists}), len(lists), (function, given))
+            self.assertTrue({id(each) for each in self.lists_in(given)}.isdisjoint([id(each) for each in lists]))
 
     def test_a_changed_result_changes_no_later_one(self):
         for function, given in self.calls():

@@ -51,6 +51,34 @@ class ExamplesTest(unittest.TestCase):
              count_sources(([(1, 0)], 0), ('lf', 0, 0, 2, 0))],
             [4, [([(2, 0)], 0), ([(1, 0)], 1), ([(1, 1)], 0), ([], 2)], 0])
 
+    def test_tracing(self):
+        from lineends.tracing import offspring, trace
+        run = ([(2, 1)], 1)
+        self.assertEqual(
+            [trace(run, ('keep', 1, 2), 1), trace(run, ('lf', 0, 0, 2, 1), 7), offspring(run, ('keep', 1, 2), 0),
+             offspring(run, ('cr', 0, 1, 3), 1)],
+            [1, 1, None, (3, 8)])
+
+    def test_remainders(self):
+        from lineends.remainders import remainder
+        self.assertEqual(
+            [remainder(('keep', 0, 2), ('keep', 1, 0)), remainder(('keep', 1, 0), ('keep', 0, 0)),
+             remainder(('lf', 0, 0, 1, 0), ('lf', 0, 0, 6, 2)), remainder(('cr', 0, 0, 2), ('cr', 0, 0, 2))],
+            ['DDD', None, 'UMUUMUU', ''])
+
+    def test_fitting(self):
+        from lineends.fitting import fits, simplest
+        self.assertEqual(
+            [simplest([(([(1, 5)], 0), ([(1, 3)], 0))]), simplest([(([(1, 0)], 0), ([(6, 0)], 0))]),
+             simplest([(([], 1), ([], 2)), (([], 1), ([], 3))])],
+            [[('keep', 2, 0)], [('lf', 0, 1, 3, 0), ('lf', 0, 2, 2, 0)], []])
+        self.assertTrue(callable(fits))
+
+    def test_hidden(self):
+        from lineends.hidden import HiddenChain, find
+        hidden = HiddenChain('DUMUM')
+        self.assertEqual([find(hidden, 10), hidden.questions], [('lf', 1, 1, 2, 0), 1])
+
     def test_readme(self):
         # The fences around the examples would be read as a part of what is wanted.
         text = README.read_text().replace("```", "")
