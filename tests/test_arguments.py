@@ -4,17 +4,21 @@ import copy
 import inspect
 import unittest
 
-from lineends import (converting, counting, errors, fitting, forms, hidden as hidden_file, remainders, shortest,
-                      sources as sources_file, staying, tracing)
+from lineends import (converting, counting, errors, fitting, forms, hidden as hidden_file, readings, remainders,
+                      shortest, sources as sources_file, staying, texts, tracing)
 from lineends.converting import convert, convert_run, runs_of, size, stages
 from lineends.counting import count_forms, forms_with
+from lineends.depots import Depot
+from lineends.files import LineFile
 from lineends.fitting import fits, simplest
 from lineends.forms import apply_form, commute, form, joined, powered, same
 from lineends.hidden import HiddenChain, find
+from lineends.readings import read_form, read_run
 from lineends.remainders import remainder
 from lineends.shortest import count_shortest, fewest_steps, nth_shortest, shortest_chain, shortest_number
 from lineends.sources import count_sources, sources
 from lineends.staying import is_idempotent, stays, undoing
+from lineends.texts import show_form, show_run
 from lineends.tracing import offspring, trace
 
 INTERFACE = {
@@ -31,11 +35,18 @@ INTERFACE = {
     remainders: {"remainder": ["first", "second"]},
     fitting: {"fits": ["pairs", "wanted"], "simplest": ["pairs"]},
     hidden_file: {"find": ["hidden", "longest"]},
+    texts: {"show_run": ["run"], "show_form": ["wanted"]},
+    readings: {"read_run": ["text"], "read_form": ["text"]},
 }
 
 # Each class with its arguments, its methods with theirs, and its properties.
 CLASSES = {
     HiddenChain: ("lineends.hidden", ["chain"], {"ask": ["text"]}, ["questions"]),
+    LineFile: ("lineends.files", ["text"], {"convert": ["chains"], "undo": [], "lines": []},
+               ["text", "chain", "form", "breaks"]),
+    Depot: ("lineends.depots", ["name"],
+            {"copy": ["source", "name", "chain"], "form_of": ["name"], "way": ["source", "name"],
+             "are_same": ["first", "second"], "groups": []}, ["names"]),
 }
 
 RUNS = [([], 0), ([], 4), ([(1, 0)], 0), ([(2, 0), (1, 3), (4, 1)], 2)]
@@ -109,12 +120,34 @@ class InterfaceTest(unittest.TestCase):
         self.assertEqual(hidden.ask(text="\n"), "^\n")
         self.assertEqual(find(longest=1, hidden=hidden), ("keep", 0, 1))
 
+    def test_arguments_by_name_of_functions_of_texts_and_of_classes(self):
+        run = ([(1, 2)], 3)
+        self.assertEqual(show_run(run=run), "1x2 +3")
+        self.assertEqual(show_form(wanted=("keep", 0, 1)), "keep 0 1")
+        self.assertEqual(read_run(text="1x2 +3"), run)
+        self.assertEqual(read_form(text="keep 0 1"), ("keep", 0, 1))
+        self.assertEqual(LineFile(text="a\n").text, "a\n")
+        self.assertEqual(LineFile.of_lines(ending="\n", lines=["a"]).text, "a\n")
+        depot = Depot(name="a")
+        depot.copy("a", "b", "U")
+        self.assertEqual(depot.form_of(name="b"), ("keep", 0, 1))
+        self.assertEqual(depot.way(name="a", source="b"), "D")
+        self.assertIs(depot.are_same(second="a", first="b"), False)
+
+    def test_of_lines_is_a_class_method_and_convert_takes_any_number_of_chains(self):
+        self.assertIsInstance(vars(LineFile)["of_lines"], classmethod)
+        self.assertEqual(list(inspect.signature(LineFile.of_lines).parameters), ["lines", "ending"])
+        taken = inspect.signature(LineFile.convert).parameters["chains"]
+        self.assertEqual(taken.kind, inspect.Parameter.VAR_POSITIONAL)
+
 
 class ListsTest(unittest.TestCase):
     def calls(self):
         """Each call that takes or returns lists: a function and its arguments."""
         for run in RUNS:
             yield size, (run,)
+            yield show_run, (run,)
+            yield read_run, (show_run(run),)
             for chain in CHAINS:
                 yield convert_run, (run, chain)
             for wanted in FORMS:

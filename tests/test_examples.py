@@ -79,6 +79,35 @@ class ExamplesTest(unittest.TestCase):
         hidden = HiddenChain('DUMUM')
         self.assertEqual([find(hidden, 10), hidden.questions], [('lf', 1, 1, 2, 0), 1])
 
+    def test_files(self):
+        from lineends.files import LineFile
+        file = LineFile.of_lines(['a', 'b'], '^\n')
+        file.convert('D', 'UM')
+        file.undo()
+        self.assertEqual([file.text, file.chain, file.form, file.breaks, list(file.lines())],
+                         ['a^\nb^\n', 'DU', ('keep', 1, 1), 2, ['a^', 'b^', '']])
+
+    def test_depots(self):
+        from lineends.depots import Depot
+        depot = Depot('main')
+        depot.copy('main', 'dos', 'U')
+        depot.copy('dos', 'back', 'D')
+        self.assertEqual([depot.form_of('dos'), depot.way('dos', 'main'), depot.are_same('main', 'back'),
+                          list(depot.groups())],
+                         [('keep', 0, 1), 'D', True, [['back', 'main'], ['dos']]])
+
+    def test_texts(self):
+        from lineends.texts import show_form, show_run
+        self.assertEqual([show_run(([(3, 0), (1, 2)], 1)), show_run(([], 0)), show_form(('lf', 0, 1, 2, 0))],
+                         ['3x0 1x2 +1', '+0', 'lf 0 1 2 0'])
+
+    def test_readings(self):
+        from lineends.errors import Unreadable
+        from lineends.readings import read_run
+        with self.assertRaises(Unreadable) as caught:
+            read_run('2x0 3x0')
+        self.assertEqual(caught.exception.value, '2x0 3x0')
+
     def test_readme(self):
         # The fences around the examples would be read as a part of what is wanted.
         text = README.read_text().replace("```", "")

@@ -189,7 +189,8 @@ class SimplestTest(unittest.TestCase):
         for _ in range(25):
             runs = [read("".join(drawn.choices("^^^\n", k=drawn.randrange(1, 30)))) for _ in range(10)]
             b = drawn.randrange(9)
-            wanted = drawn.choice([("keep", b, drawn.randrange(3)), ("lf", b, 0, 1, 1), ("cr", b, 1, 1), ("cr", b, 0, 2)])
+            wanted = drawn.choice([("keep", b, 0), ("keep", b, 2), ("lf", b, 0, 1, 1), ("cr", b, 1, 1),
+                                   ("cr", b, 0, 2)])
             pairs = [(run, apply_form(run, wanted)) for run in runs]
             self.assertEqual(simplest(pairs), slow_simplest(pairs, 30))
             self.assertLessEqual(fewest_steps(simplest(pairs)[0]), fewest_steps(wanted))
